@@ -73,21 +73,16 @@ def steps_in(plan, world, callers):
 
 def count_calls(plan):
     """How many plain calls there are; they are not listed."""
-    return sum([count_fillings(method.params, plan) for _, method in list(plan.homes.values())])
+    return sum([count_fillings(method.params, plan, 0) for _, method in list(plan.homes.values())])
 
 
-def count_fillings(params, plan):
-    """How many plain calls a method with these parameters has."""
-    # By the number of new boxes written so far: how many ways there are to come to it.
-    counts = {0: 1}
-    for param in params:
-        after = {}
-        for news, ways in counts.items():
-            same = len(plan.marks) if param.holds == "mark" else news
-            if param.default is not None:
-                same += 1
-            after[news] = after.get(news, 0) + ways * same
-            if param.holds == "box":
-                after[news + 1] = after.get(news + 1, 0) + ways * len(plan.contents)
-        counts = after
-    return sum(list(counts.values()))
+def count_fillings(params, plan, news):
+    """How many choices there are for the parameters; so many new boxes are written before."""
+    if len(params) == 0:
+        return 1
+    others = params[1:]
+    left_out = 0 if params[0].default is None else 1
+    if params[0].holds == "mark":
+        return (left_out + len(plan.marks)) * count_fillings(others, plan, news)
+    with_new_box = len(plan.contents) * count_fillings(others, plan, news + 1)
+    return with_new_box + (left_out + news) * count_fillings(others, plan, news)

@@ -200,13 +200,10 @@ class Library:
 
 def check_order(params):
     """Parameters that are not named come first, and among these the ones without a default."""
-    named = False
-    optional = False
-    for param in params:
-        if not param.named and (named or (optional and param.default is None)):
+    # The first parameter that stands wrong stands right behind one that it must precede.
+    for before, param in zip(params, params[1:]):
+        if not param.named and (before.named or (before.default is not None and param.default is None)):
             raise BadOrder(param.name)
-        named = named or param.named
-        optional = optional or (not param.named and param.default is not None)
 
 
 def face_of(method):

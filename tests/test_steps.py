@@ -6,7 +6,9 @@ from oncedefaults.errors import (
 )
 from oncedefaults.parts import Kind, Library, Method, Param
 from oncedefaults.plans import Plan
-from oncedefaults.states import new_state, world_of
+from oncedefaults.states import held_in_world, new_state, world_of
+from oncedefaults.steps import with_numbers
+from oncedefaults.texts import read_library
 from oncedefaults.worlds import Table, report
 from tests import oracle, randoms
 from tests.helpers import OBJECTS, Case, family_example, first_example, mark
@@ -141,6 +143,28 @@ class Errors(Case):
             self.raises(BadStep(step), report, self.library, step)
             self.raises(BadStep(step), report_at, self.state, step)
             self.raises(BadStep(step), Table(first_example()).reports, step)
+
+
+class Numbers(Case):
+    def test_other_numbers(self):
+        step = ("call", "k", "f", (0, "a", 1, ("b",), 2), (("x", 3), ("y", "b"), ("z", ()), ("w", 1)))
+        wanted = ("call", "k", "f", (5, "a", 3, ("b",), 7), (("x", 8), ("y", "b"), ("z", ()), ("w", 3)))
+        self.assertEqual(with_numbers(step, [5, 3], 7), wanted)
+        self.assertEqual(with_numbers(step, [], 0), step)
+        self.assertEqual(with_numbers(("put", 1, "a"), [5, 3], 7), ("put", 3, "a"))
+        self.assertEqual(with_numbers(("take", 0, "b"), [5, 3], 7), ("take", 5, "b"))
+
+    def test_held_in_world(self):
+        library = read_library(
+            "marks a\nkind k\nvalue t = {}\nvalue u = {}\nvalue v = k.t\ndef f()\nx = k.u\nreturn x\ndef g()\nx = k.t\nreturn x"
+            "\ndef h()\nx = {}\nreturn x"
+        )
+        state = new_state(Plan(library))
+        numbers = []
+        for name in "hfhg":
+            do_step(state, call("k", name))
+            numbers.append(held_in_world(state))
+        self.assertEqual(numbers, [[], [1], [1], [3, 1]])
 
 
 class Answers(Case):

@@ -142,6 +142,26 @@ class Tables(Case):
         self.assertEqual(table((twice, ("call", "k", "f", ((), 1), ()))), 0)
         self.raises(BadHistory(1), table, (twice, twice))
 
+    def test_histories_number_boxes_as_their_caller_does(self):
+        """The caller also holds boxes that no place has, so its numbers are not those of the world."""
+        library = read_library(
+            "marks a b\nkind k\nvalue u = {}\nvalue v = {}\nvalue w = {}\ndef mk()\ncls.w |= {a}\nx = {}\nreturn x"
+            "\ndef get()\nx = {}\nt = cls.w\nif a in t: x = cls.u\nreturn x"
+            "\ndef set(box x)\nz = cls.u\nif x is z: cls.v = x\nif x is z: cls.w |= {b}\nreturn none"
+            "\ndef new(box x, *, box y)\nt = cls.w\nz = {b}\nif b in t: z = x\nif x is y: cls.v = z\nreturn none"
+        )
+        table = Table(library, callers=Callers(changes=False))
+        shared = ((0, 0, 1), ((EMPTY, "held"), (AB, "free")))
+        fresh = ((0, 1, 2), ((EMPTY, "held"), (EMPTY, "held"), (AB, "free")))
+        steps = [("call", "k", "mk", (), ()), ("call", "k", "get", (), ()), ("call", "k", "set", (1,), ())]
+        self.assertEqual(table.history(list(table).index(shared)), tuple(steps))
+        steps.append(("call", "k", "new", (EMPTY,), (("y", 2),)))
+        self.assertEqual(table.history(list(table).index(fresh)), tuple(steps))
+        for at, one in enumerate(table):
+            history = table.history(at)
+            self.assertEqual((table(history), len(history)), (at, table.depth(at)))
+            self.assertEqual(oracle.run_behind(library, history).world(), one)
+
     def test_errors_of_reports(self):
         self.raises(NoKind("no"), Table(first_example()).reports, ("call", "no", "put", (), ()))
 

@@ -97,7 +97,7 @@ NO_ROWS = [
     "if a in cls.v: x = y", "if {a} == x: x = y", "if a in x: a in x", "if a in x: return x", "if a in x: if a in x: x = y",
     "unless", "unless a in x", "unless a in x:", "unless x != y: x = y", "unless x is y: x == y", "else: x = y", "pass", "return",
     "x = abcdefghi", "abcdefghi = x", "x = {abcdefghi}", "x = a1", "x = {}\t", "x = none", "none = x", "x = if", "#", "x = {} # no",
-    "if a in x: x = {}: x = {}", "if a IN x: x = y", "IF a in x: x = y", "if a in x; x = y",
+    "x = (a}", "x = {a)", "x = xa}", "x = {ab", "x |= (a}", "cls.v -= {ax", "if a in x: x = {}: x = {}", "if a IN x: x = y", "IF a in x: x = y", "if a in x; x = y",
 ]
 NO_RETURNS = [
     "return", "return ", "return  x", "return x ", "return x y", "return copy", "return copy ", "return copy none", "return none x",
@@ -114,7 +114,7 @@ NO_PARAMS = [
     " ", "p", "mark", "box", "mark ", "box ", "mark  p", "mark p ", " mark p", "mark p=", "mark p =a", "mark p= a", "mark p=A",
     "mark p={a}", "mark p=once {}", "mark p=early k.v", "box p=a", "box p={}", "box p=once", "box p=once ", "box p=once{}",
     "box p=once {b a}", "box p=once {a a}", "box p=once {a,b}", "box p=new {}", "box p=copy q", "box p=anew", "box p=anew a",
-    "box p=early", "box p=early k", "box p=early cls.v", "box p=early k.v.w", "box p=early self.v", "box p=late", "box p=late self.v",
+    "box p=early", "box p=early k", "box p=early cls.v", "box p=early k.v.w", "box p=later k.v", "box p=new k.v", "box p= k.v", "box p=k.v", "box p=once k.v", "box p=early {}", "box p=late {a}", "box p=early self.v", "box p=late", "box p=late self.v",
     "box p=late cls", "box p=late v", "box p=late cls.cls", "box p=once  {}", "box p=once {} ", "box mark", "mark box", "box P",
     "set p", "box cls", "mark p,box q", "mark p , box q", "mark p,  box q", "mark p, ", ", mark p", "mark p,", ",", "*", "*, ",
     "mark p, *", "*, *", "*, *, box p", "*, box p, *", "*, box p, *, box q", "*box p", "* box p", "**, box p", "*p", "(box p)",
@@ -225,7 +225,7 @@ class Wrong(Case):
         for params in NO_PARAMS:
             self.wrong([*HEAD[:3], f"def f({params})", "return none"], 3)
         for line in ("def", "def ", "def f", "def f(", "def f)", "def (box x)", "def  f()", "def f ()", "def f() ", "def f():",
-                     "def F()", "def f()()", "def def()", "def f(box x", "def f box x)", "def abcdefghi()", "def cls()", "Def f()"):
+                     "def F()", "def f()()", "def def()", "def f(box x", "def f(box xx", "def f(]", "def f box x)", "def abcdefghi()", "def cls()", "Def f()"):
             self.wrong([*HEAD[:3], line, "return none"], 3)
 
     def test_marks_lines(self):
@@ -243,7 +243,7 @@ class Wrong(Case):
             self.assertEqual(read_library(f"marks a\nkind {name}")[name], Kind(name))
         for name in NO_NAMES:
             self.wrong(["marks a", *f"kind {name}".split("\n")], 1 if name != "a\n" else 2)
-        for line in ("kind", "kind ", "kind  k", "kind k ", "kind k()", "kind k(j", "kind k j", "kind k(j) ", "kind k (j)", "kind k( j)",
+        for line in ("kind", "kind ", "kind  k", "kind k ", "kind k()", "kind k(j", "kind k(jj", "kind k(j]", "kind k j", "kind k(j) ", "kind k (j)", "kind k( j)",
                      "kind (j)", "kind k(cls)", "kind k(J)", "kind k(j)(i)", "kind k(j, i)", "kind k:", "kind k(j):", "kinds k"):
             self.wrong(["marks a", line], 1)
 
