@@ -5,7 +5,7 @@ import itertools
 from oncedefaults.errors import BadWorld
 from oncedefaults.parts import Kind, Library, Method, Param
 from oncedefaults.plans import Plan
-from oncedefaults.states import new_state, state_in, world_of
+from oncedefaults.states import state_in, world_of
 from oncedefaults.worlds import Callers, first_world, is_world, report, steps_at
 from tests import oracle, randoms
 from tests.helpers import OBJECTS, Case, family_example, first_example, mark
