@@ -3,7 +3,7 @@
 from oncedefaults.calling import do_step
 from oncedefaults.errors import TooMany
 from oncedefaults.listing import steps_in
-from oncedefaults.states import held_in_world, new_state, state_in, world_of
+from oncedefaults.states import held_in_world, is_world_over, may_be_unset, new_state, state_in, world_of
 from oncedefaults.steps import with_numbers
 
 
@@ -54,6 +54,20 @@ def steps_away(plan, world, callers):
         if other not in found:
             found[other] = step
     return found
+
+
+def are_closed(plan, thing, callers):
+    """Whether any object is worlds with the first one and all that are one step away from one of them."""
+    unset = may_be_unset(plan.library)
+    if not isinstance(thing, tuple) or not all([is_world_over(unset, plan.marks, world) for world in thing]):
+        return False
+    known = {world: True for world in thing}
+    if world_of(new_state(plan)) not in known:
+        return False
+    for world in known:
+        if not all([other in known for other in steps_away(plan, world, callers)]):
+            return False
+    return True
 
 
 def history_of(plan, steps):

@@ -60,6 +60,11 @@ def calls_for(plan, held, callers):
                 yield plain_call(kind, method, filling)
 
 
+def plain_calls(plan):
+    """A list of all plain calls, in order."""
+    return list(calls_for(plan, 0, None))
+
+
 def steps_in(plan, world, callers):
     """The steps at a world, in order."""
     held = len([box for box in world[1] if box[1] == "held"])

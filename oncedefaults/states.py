@@ -61,6 +61,11 @@ def world_of(state):
     return seats, tuple([(state.boxes[box], "held" if box in state.held else "free") for box in numbers])
 
 
+def view_of(state):
+    """The contents of all held boxes, by their numbers."""
+    return tuple([state.boxes[box] for box in state.held])
+
+
 def held_in_world(state):
     """The numbers that the caller has for the boxes that it holds in the world, in the world's order."""
     found = []
@@ -74,6 +79,14 @@ def may_be_unset(library):
     """For each place of a library whether it may have no box: a class value that is unset when the library is made."""
     seats, _ = made(library.kinds)
     return [place not in seats for place in library.places()]
+
+
+def is_world_over(unset, marks, thing):
+    """Whether any object is a world over places of which some may be unset."""
+    if not isinstance(thing, tuple) or len(thing) != 2:
+        return False
+    seats, boxes = thing
+    return are_seats(seats, unset) and are_boxes(boxes, seats, marks)
 
 
 def are_seats(thing, unset):

@@ -5,7 +5,7 @@ from oncedefaults.errors import BadCallers, BadWorld, NoWorld, TooMany
 from oncedefaults.exploring import Search, history_of
 from oncedefaults.listing import count_calls, steps_in
 from oncedefaults.plans import Plan
-from oncedefaults.states import are_boxes, are_seats, may_be_unset, new_state, state_in, world_of
+from oncedefaults.states import is_world_over, may_be_unset, new_state, state_in, world_of
 from oncedefaults.steps import arguments_of, is_call, is_change
 from oncedefaults.words import is_name, is_number_below
 
@@ -15,10 +15,7 @@ MOST_WORLDS = 60
 
 def is_world(library, thing):
     """Whether any object is a world of the library."""
-    if not isinstance(thing, tuple) or len(thing) != 2:
-        return False
-    seats, boxes = thing
-    return are_seats(seats, may_be_unset(library)) and are_boxes(boxes, seats, library.marks)
+    return is_world_over(may_be_unset(library), library.marks, thing)
 
 
 def first_world(library):
@@ -42,6 +39,12 @@ def report(library, call, *, world=None):
     if not is_world(library, world):
         raise BadWorld(world)
     return report_at(state_in(plan, world), call)
+
+
+def check_calls(plan):
+    """There are at most as many plain calls as questions about all callers allow."""
+    if count_calls(plan) > MOST_CALLS:
+        raise TooMany("calls")
 
 
 def are_pairs(thing):
@@ -90,8 +93,7 @@ class Table:
 
     def __init__(self, library, *, callers=None, most=MOST_WORLDS):
         plan = Plan(library)
-        if count_calls(plan) > MOST_CALLS:
-            raise TooMany("calls")
+        check_calls(plan)
         self._plan = plan
         self._callers = callers
         self._search = Search(plan, callers, most)

@@ -154,6 +154,72 @@ class PythonRun:
         exec(source(library), self.names)
         self.held = []
 
+    def put_into(self, world):
+        """Puts the run into a world."""
+        seats, contents = world
+        boxes = [Box(marks) for marks, _ in contents]
+        for place, seat in zip(places(self.library), seats):
+            self.give(place, None if seat == -1 else boxes[seat])
+        self.held = [box for box, (_, word) in zip(boxes, contents) if word == "held"]
+        return self
+
+    def give(self, place, box):
+        """A place gets a box; a class value may also lose the one that it has."""
+        owner = self.names[f"k_{place[1]}"]
+        if place[0] == "value" and box is not None:
+            setattr(owner, f"v_{place[2]}", box)
+        elif place[0] == "value":
+            if f"v_{place[2]}" in vars(owner):
+                delattr(owner, f"v_{place[2]}")
+        else:
+            function = vars(owner)[f"f_{place[2]}"].__func__
+            defaults = {param.name: param.default for param in inspect.signature(function).parameters.values()}
+            defaults[f"n_{place[3]}"] = box
+            kept = [(param, defaults[param.name]) for param in inspect.signature(function).parameters.values()]
+            kept = [(param, default) for param, default in kept if default is not inspect.Parameter.empty]
+            named = {param.name: default for param, default in kept if param.kind == param.KEYWORD_ONLY}
+            function.__defaults__ = tuple(default for param, default in kept if param.kind != param.KEYWORD_ONLY)
+            function.__kwdefaults__ = named
+
+    def can_do(self, step):
+        """Whether any object is a step that can be done now."""
+        if type(step) is not tuple or len(step) not in (3, 5) or type(step[0]) is not str:
+            return False
+        if len(step) == 3:
+            right = step[0] in ("put", "take") and type(step[1]) is int and type(step[2]) is str
+            return right and 0 <= step[1] < len(self.held) and step[2] in self.library.marks
+        word, kind, name, args, options = step
+        if word != "call" or type(kind) is not str or type(name) is not str or type(args) is not tuple or type(options) is not tuple:
+            return False
+        methods = [method for owner, method in pairs_of(self.library) if (owner, method.name) == (kind, name)]
+        if not methods or any(type(option) is not tuple or len(option) != 2 for option in options):
+            return False
+        names = [option[0] for option in options]
+        if any(type(one) is not str for one in names) or len(set(names)) < len(names):
+            return False
+        function = getattr(self.names[f"k_{kind}"], f"f_{name}")
+        try:
+            inspect.signature(function).bind(*args, **{f"n_{key}": argument for key, argument in options})
+        except TypeError:
+            return False
+        params = methods[0].params
+        given = list(zip(params, args)) + [(next(param for param in params if param.name == key), one) for key, one in options]
+        return self.takes(given)
+
+    def takes(self, given):
+        boxes = len(self.held)
+        for param, argument in given:
+            if param.holds == "mark":
+                right = type(argument) is str and argument in self.library.marks
+            elif type(argument) is tuple:
+                right = are_contents(argument, self.library.marks)
+                boxes += 1
+            else:
+                right = type(argument) is int and 0 <= argument < boxes
+            if not right:
+                return False
+        return True
+
     def call(self, call, held):
         """Does a call of someone who holds these boxes; what it returns, and its new boxes."""
         _, kind, name, args, options = call
@@ -222,6 +288,10 @@ class PythonRun:
             seats.append([box is other for other in boxes].index(True))
         held = ["held" if any(box is other for other in self.held) else "free" for box in boxes]
         return tuple(seats), tuple(zip([box.contents() for box in boxes], held))
+
+
+def are_contents(thing, marks):
+    return type(thing) is tuple and all(type(mark) is str for mark in thing) and thing in contents_of(marks)
 
 
 def contents_of(marks):

@@ -99,3 +99,47 @@ class Maker:
 
 def library(seed, **options):
     return Maker(seed, **options).library()
+
+
+class BusyMaker(Maker):
+    """Makes libraries of few parts in which much happens: class values and defaults are changed and returned."""
+
+    def __init__(self, seed, marks=1, kinds=1):
+        Maker.__init__(self, seed, marks=marks, kinds=kinds)
+        self.values = ["u", "v"]
+
+    def owner(self):
+        return self.random.choice(["cls", "cls", "base"])
+
+    def param(self, name, named):
+        if self.random.random() < 0.3:
+            return Param(name, named=named)
+        word = self.random.choice(["once", "once", "early", "late"])
+        default = (word, self.items()) if word == "once" else (word, "base", self.random.choice(self.values))
+        return Param(name, default=default, named=named)
+
+    def plain(self, names, marks):
+        one, other = self.random.choice(names), self.random.choice(names)
+        value, items = self.random.choice(self.values), self.random.choice([self.items(), self.marks])
+        return self.random.choice([
+            ("get", one, self.owner(), value), ("set", self.owner(), value, other), ("add", other, items), ("drop", other, items),
+            ("grow", self.owner(), value, items), ("shrink", self.owner(), value, items), ("copy", one, other), ("name", one, other),
+        ])
+
+    def method(self, name):
+        params = [self.param(one, self.random.random() < 0.3) for one in "pq"[:self.random.choice([0, 0, 1, 1, 1, 2])]]
+        names = [param.name for param in params] + ["x"]
+        rows = [("get", "x", self.owner(), self.random.choice(self.values))]
+        rows += [self.row(names, []) for _ in range(self.random.choice([0, 1, 1, 2, 3]))]
+        return Method.of(name, params, rows=tuple(rows), returns=self.returns(names, []))
+
+    def kind(self, name, earlier):
+        if earlier:
+            return Kind.of(name, [self.tried(self.method, "f")], base=earlier[0])
+        methods = [self.tried(self.method, one) for one in ("f", "g", "h")[:self.random.choice([1, 2, 2, 3])]]
+        values = (("u", ("once", self.items())), ("v", self.random.choice([("once", self.items()), ("early", "base", "u")])))
+        return Kind.of(name, methods, values=values)
+
+
+def busy_library(seed, **options):
+    return BusyMaker(seed, **options).library()

@@ -15,4 +15,4 @@ class Readme(unittest.TestCase):
                 with self.subTest(shown):
                     self.assertEqual(eval(shown, names), eval(value, names))
                     names["checked"] = names.get("checked", 0) + 1
-        self.assertEqual(names["checked"], 8)
+        self.assertEqual(names["checked"], 22)

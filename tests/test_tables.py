@@ -8,6 +8,7 @@ from oncedefaults.states import new_state, state_in, world_of
 from oncedefaults.texts import read_library
 from oncedefaults.worlds import MOST_CALLS, MOST_WORLDS, Callers, Table, first_world, report
 from tests import oracle, randoms
+from tests.bounds import counter, millions
 from tests.helpers import OBJECTS, Case, emptying_example, family_example, first_example, mark
 
 EMPTY, A, B, AB = (), ("a",), ("b",), ("a", "b")
@@ -172,22 +173,6 @@ def kinds_with(methods):
     return [Kind.of(names[at // 4], methods[at:at + 4]) for at in range(0, len(methods), 4)]
 
 
-def counter(stop):
-    """A value that counts in binary from 0 to the stop: each method adds one if its bit is the one to be set."""
-    marks = "abcdef"
-    w = " ".join(letter for at, letter in enumerate(marks) if stop >> at & 1)
-    lines = ["marks a b c d e f", "kind k", "value v = {}", f"value w = {{{w}}}"]
-    for at, letter in enumerate(marks):
-        lower, with_it, higher = (" ".join(some) for some in (marks[:at], marks[:at + 1], marks[at + 1:]))
-        lines += ["kind j"] if at == 4 else []
-        lines += [
-            f"def p{letter}()", "x = k.v", "y = k.w", "low = copy x", f"low -= {{{higher}}}", f"full = {{{lower}}}",
-            f"if x == y: low = {{{with_it}}}", f"if low == full: k.v |= {{{letter}}}", f"if low == full: k.v -= {{{lower}}}",
-            "return none",
-        ]
-    return read_library("\n".join(lines))
-
-
 class Bounds(Case):
     def test_numbers(self):
         self.assertEqual((MOST_CALLS, MOST_WORLDS), (60, 60))
@@ -228,9 +213,7 @@ class Bounds(Case):
         self.raises(TooMany("calls"), Table, library, callers=Callers((("k", "g"),), changes=False))
 
     def test_millions_of_calls(self):
-        params = [mark("m", "a"), mark("n", "a"), Param("x", default=("once", ())), Param("y", default=("once", ()))]
-        kind = Kind.of("k", [Method.of(name, params) for name in "wxyz"])
-        library = Library.of([kind] + [Kind(name, base="k") for name in "hij"], marks=tuple("abcdef"))
+        library = millions()
         self.raises(TooMany("calls"), Table, library)
         self.raises(TooMany("calls"), Table, library, callers=Callers(()))
 
