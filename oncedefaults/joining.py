@@ -61,16 +61,15 @@ class JointSearch:
         self.ways = {joint: None for joint in starts}
         self.parting = None
         depths = {joint: starts[joint] for joint in starts}
-        check_joints(depths, most)
         depth = 0
-        while depth <= max(list(depths.values())):
+        while depth <= max(depths.values()):
             level = [joint for joint in depths if depths[joint] == depth]
             for joint in level:
                 found, parting = joints_away(first, second, joint, callers)
                 if self.parting is None and parting is not None:
                     self.parting = (joint, parting)
                 for other in found:
-                    if depths.get(other, depth + 2) > depth + 1:
+                    if other not in depths or depths[other] > depth + 1:
                         depths[other] = depth + 1
                         self.ways[other] = (joint, found[other])
                 check_joints(depths, most)

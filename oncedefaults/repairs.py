@@ -29,14 +29,14 @@ def chosen(places, count):
 
 
 def looked_at(version, by, callers, most, joints):
-    """What shows that a version is good, as a list of one, or that it is not, as a list of two."""
+    """What shows that a version is good, as a tuple of one, or that it is not, as a tuple of two."""
     if by == "newcomers":
-        return list(newcomers(version, callers=callers, most=most, joints=joints)[1:])
+        return newcomers(version, callers=callers, most=most, joints=joints)[1:]
     plan = Plan(version)
     check_calls(plan)
     search = Search(plan, callers, most)
     shown = first_noticed(plan, search, plain_calls(plan))
-    return [tuple(search.worlds)] if shown is None else list(shown)
+    return (tuple(search.worlds),) if shown is None else shown
 
 
 def fewest(library, *, by="calls", callers=None, most=MOST_WORLDS, joints=2 * MOST_WORLDS):

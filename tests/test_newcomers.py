@@ -7,7 +7,7 @@ from oncedefaults.joints import alike, is_newcomers, newcomers
 from oncedefaults.noticing import notice
 from oncedefaults.parts import Kind, Library, Method
 from oncedefaults.runs import calls_of
-from oncedefaults.texts import read_library
+from oncedefaults.texts import read_library, show_library
 from oncedefaults.worlds import Callers, Table
 from tests import bounds, slow
 from tests.bending import bent, some_bent, stretched
@@ -63,6 +63,24 @@ class Papers(Case):
         self.assertEqual(newcomers(SPLIT, callers=Callers((("k", "get"), ("k", "give"))))[0], "blind")
         self.assertEqual(newcomers(SPLIT, callers=Callers((("k", "split"), ("k", "give"))))[0], "blind")
         self.assertEqual(newcomers(SPLIT.version(SPLIT.defaults()))[0], "blind")
+
+    def test_both_histories_together_are_short(self):
+        """Ways with less steps of the one kind, or with less of the other kind, are longer in all."""
+        more = "\nkind j\nvalue w = {}\ndef go()\nx = j.w\nif b in x: j.w |= {c}\nif a in x: j.w |= {b}\nj.w |= {a}\nreturn none"
+        more += "\ndef ask()\nx = j.w\nreturn c in x"
+        library = read_library(show_library(SPLIT).replace("marks a", "marks a b c").replace("-= {a}", "-= {a b c}") + more)
+        go, ask = ("call", "j", "go", (), ()), ("call", "j", "ask", (), ())
+        for many in (1, 2, 3):
+            self.assertIs(is_newcomers(library, ("found", (go,) * many, (go,) * (3 - many) + (ask,)), callers=Callers(changes=False)), True)
+        word, history, later = newcomers(library, callers=Callers(changes=False))
+        self.is_same((word, history, len(later)), ("found", (one_method("split"),), 2))
+        library = read_library(
+            "marks a\nkind k\nvalue v = {}\nvalue w = k.v\ndef split()\nx = {}\nk.w = x\nreturn none\ndef get()\nk.v -= {a}\nx = k.v\nreturn x"
+            "\ndef ask()\nx = k.w\ny = copy x\nk.w -= {a}\nreturn a in y"
+        )
+        get, ask, split = one_method("get"), one_method("ask"), one_method("split")
+        self.is_same(newcomers(library), ("found", (get, ("put", 0, "a")), (ask,)))
+        self.assertIs(is_newcomers(library, ("found", (split,), (get, ("put", 0, "a"), ask))), True)
 
     def test_right_papers_of_others(self):
         library = first_example()

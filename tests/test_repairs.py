@@ -226,6 +226,15 @@ class Checking(Case):
         self.assertIs(is_fewest(library, fewest(library, callers=NOBODY), callers=NOBODY), True)
         self.assertIs(is_fewest(library, fewest(library, callers=NOBODY)), False)
         self.assertIs(is_fewest(library, ("anew", (INTO,), (((), ()),), ()), callers=NOBODY), False)
+        only = Callers((("base", "note"),))
+        base, heir = [("call", kind, "note", ("a",), ()) for kind in ("base", "heir")]
+        for by in WAYS:
+            for first, last in ((base, base), (base, heir), (heir, base), (heir, heir)):
+                last = (*last[:3], ("b",), ())
+                paper = ("none", (((), (first,), last if by == "calls" else (last,)),))
+                self.assertIs(is_fewest(family_example(), paper, by=by), True)
+                right = first == base and (by == "calls" or last[1] == "base")
+                self.assertIs(is_fewest(family_example(), paper, by=by, callers=only), right)
 
     def test_any_object(self):
         for library in (first_example(), emptying_example(), Library()):

@@ -9,9 +9,10 @@ from oncedefaults.errors import (
 from oncedefaults.parts import Kind, Library, Method, Param
 from oncedefaults.runs import Run, calls_of
 from oncedefaults.texts import read_library
-from oncedefaults.worlds import Table, first_world, is_world, report
+from oncedefaults.worlds import Table, first_world, is_world, report, steps_at
 from tests import oracle, randoms, slow
 from tests.helpers import OBJECTS, Case, emptying_example, family_example, first_example, mark
+from tests.libraries import some_libraries
 from tests.test_steps import NO_STEPS, call, calling_library
 
 EMPTY, A, B, AB = (), ("a",), ("b",), ("a", "b")
@@ -379,6 +380,28 @@ class LikePython(Case):
                 self.assertEqual(Run.put_into(library, world).world, world)
                 for one in calls_of(library):
                     self.assertEqual(table.reports(one)[at], run.report(one))
+
+
+    def test_random_tables(self):
+        """The worlds one step away are those of runs that are put there and do the steps at the world."""
+        for seed, library, callers, (order, histories, _) in some_libraries(60, first=500):
+            table = Table(library, callers=callers)
+            calls = list(calls_of(library))
+            for at, world in enumerate(table):
+                for history in (table.history(at), histories[world]):
+                    run = Run.behind(library, history)
+                    self.assertEqual((run.world, len(run), table(history)), (world, table.depth(at), at))
+                after = []
+                for step in steps_at(library, world, callers=callers):
+                    run = Run.put_into(library, world)
+                    self.assertIs(callers is None or callers.allows(step, len(run.view)), True)
+                    run.step(step)
+                    after.append(run.world)
+                self.assertEqual([table[index] for index in table.after(at)], sorted(set(after), key=list(table).index))
+                for one in calls[:4]:
+                    self.is_same(Run.put_into(library, world).report(one), table.reports(one)[at])
+                    self.is_same(Run.behind(library, histories[world]).report(one), table.reports(one)[at])
+            self.assertEqual(list(table), order)
 
 
 class Calls(Case):
