@@ -68,8 +68,9 @@ class JointSearch:
                 found, parting = joints_away(first, second, joint, callers)
                 if self.parting is None and parting is not None:
                     self.parting = (joint, parting)
+                # None of those to begin with is reached sooner so: earlier callers could have done these steps, too.
                 for other in found:
-                    if other not in depths or depths[other] > depth + 1:
+                    if other not in depths:
                         depths[other] = depth + 1
                         self.ways[other] = (joint, found[other])
                 check_joints(depths, most)
